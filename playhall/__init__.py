@@ -1,0 +1,1 @@
+"""Playhall: games written as rules, their records, and what is decided about them for all plays."""
