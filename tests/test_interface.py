@@ -1,0 +1,106 @@
+"""The names, parameters and kinds that the interface lists, each in the file under which it stands."""
+
+import ast
+import inspect
+import unittest
+from importlib import import_module
+from pathlib import Path
+
+PACKAGE = Path(__file__).resolve().parent.parent / "playhall"
+
+FUNCTIONS = {
+    "names": ["is_name(text)", "is_label(text)", "is_number(text)"],
+    "gametext": ["write_game(game)", "read_game(text)"],
+    "positions": [
+        "holds(game, goal, position)", "goals_at(game, position)", "legal(game, position)",
+        "after(game, position, name, *, times=1)", "before(game, position, name, *, times=1)", "walk(game, play)",
+        "end_of(game, play)"],
+    "likeness": [
+        "face(game, position)", "likeness(game, other, *, limit=2000)", "parting_play(game, other, *, limit=2000)",
+        "check_likeness(game, other, pairs)"],
+    "classes": ["classes(arena)", "parting_between(arena, number, other)", "least_form(arena)"],
+    "records": ["attempted(record, deed)", "replayed(game, entries)"],
+    "recordtext": ["write_entries(entries)", "read_entries(text)"],
+    "orders": [
+        "meet(game, one, other)", "order_gap(game, one, other)", "least_order(game, play)", "stages(game, play)",
+        "longest_chain(game, play)", "going_with(game, play, index)", "without(game, play, index)",
+        "merged(game, base, one, other)"],
+    "forcing": [
+        "targets_of(arena, goal)", "forced_ranks(arena, team, targets)", "answers(arena, team, targets)",
+        "trap(arena, team, targets)", "least_start(game, counter, team, goal, *, limit=2000)"],
+    "gifts": ["gifts(arena, play, team, targets)", "first_gift(arena, play, team, targets)"],
+    "linear": ["rank_of(vectors)", "combination(vectors, goal)", "balance(matrix)"],
+    "scoretext": ["write_scoring(scoring)", "read_scoring(text)"],
+}
+CLASSES = {
+    "shifts": {"Shift": [
+        "__init__(self, rows)", "__add__(self, other)", "__invert__(self)", "__mul__(self, other)", "__eq__(self, other)",
+        "sum_of(shifts)", "gap(self, values)", "applied(self, values)"]},
+    "moves": {"Move": ["__init__(self, name, player, needs, changes, *, sign=None, foul=False)", "__eq__(self, other)"]},
+    "games": {"Game": [
+        "__init__(self, players, counters, moves, goals=())", "move(self, name)", "shift(self, name)", "goal(self, name)",
+        "shift_of(self, play)", "started(self, counter, value)", "__eq__(self, other)"]},
+    "arenas": {"Arena": [
+        "__init__(self, game, *, limit=2000)", "__iter__(self)", "__contains__(self, x)", "number(self, position)",
+        "play_to(self, number)"]},
+    "records": {
+        "Record": [
+            "__init__(self, game)", "play(self, name, times=1)", "back(self, count=1)", "forth(self, count=1)",
+            "take(self, entries)", "plain(self)", "__iter__(self)"],
+        "Attempt": ["__init__(self, record)", "__enter__(self)", "__exit__(self, kind, value, trace)"]},
+    "halls": {"Hall": [
+        "__init__(self, purses, tables)", "__iter__(self)", "__getitem__(self, at)", "table_play(self, play, name)",
+        "table_position(self, position, name)"]},
+    "scorings": {"Scoring": [
+        "__init__(self, tallies, rules, score)", "__eq__(self, other)", "values_after(self, values, move)",
+        "value(self, values)", "values_of(self, play)", "score(self, play)"]},
+}
+PROPERTIES = {
+    ("shifts", "Shift"): ["never"],
+    ("arenas", "Arena"): ["size", "positions", "ways"],
+    ("records", "Record"): [
+        "position", "done", "ahead", "done_length", "ahead_length", "entries", "effect", "moves_done"],
+}
+
+
+def defined_in(module):
+    body = ast.parse((PACKAGE / f"{module}.py").read_text("utf-8")).body
+    return [part.name for part in body if isinstance(part, (ast.FunctionDef, ast.ClassDef))]
+
+
+class InterfaceTest(unittest.TestCase):
+    def test_functions(self):
+        for module, rows in FUNCTIONS.items():
+            for row in rows:
+                name = row.partition("(")[0]
+                self.assertIn(name, defined_in(module))
+                found = getattr(import_module(f"playhall.{module}"), name)
+                self.assertEqual(name + str(inspect.signature(found)), row)
+
+    def test_classes_and_methods_in_their_own_bodies(self):
+        for module, parts in CLASSES.items():
+            for name, rows in parts.items():
+                self.assertIn(name, defined_in(module))
+                found = getattr(import_module(f"playhall.{module}"), name)
+                for row in rows:
+                    method = row.partition("(")[0]
+                    self.assertIn(method, vars(found))
+                    self.assertEqual(method + str(inspect.signature(getattr(found, method))), row)
+
+    def test_properties(self):
+        for (module, name), rows in PROPERTIES.items():
+            found = getattr(import_module(f"playhall.{module}"), name)
+            for row in rows:
+                self.assertIsInstance(vars(found)[row], property)
+
+    def test_generators(self):
+        for module, name in (("positions", "walk"), ("gifts", "gifts")):
+            self.assertTrue(inspect.isgeneratorfunction(getattr(import_module(f"playhall.{module}"), name)))
+
+    def test_limits(self):
+        self.assertEqual(import_module("playhall.arenas").LIMIT, 2000)
+        self.assertEqual(import_module("playhall.likeness").LIMIT, 2000)
+
+
+if __name__ == "__main__":
+    unittest.main()
