@@ -3,6 +3,7 @@
 from playhall.errors import BadGame, NoCounter, NoGoal, NoMove
 from playhall.names import is_label
 from playhall.needs import is_need, merged_needs
+from playhall.players import bad_player
 from playhall.shifts import Shift
 
 
@@ -10,7 +11,7 @@ class Game:
     """A game that is written as rules."""
 
     def __init__(self, players, counters, moves, goals=()):
-        _refuse_bad("players", _bad_player(players))
+        _refuse_bad("players", bad_player(players))
         _refuse_bad("counters", _bad_counter(counters))
         self.players = tuple(players)
         self.counters = tuple([label for label, _, _ in counters])
@@ -65,16 +66,6 @@ class Game:
 def _refuse_bad(part, index):
     if index is not None:
         raise BadGame(part, index)
-
-
-def _bad_player(players):
-    """The index of the first invalid player, or None."""
-    seen = {}
-    for index, player in enumerate(players):
-        if player in seen or not is_label(player):
-            return index
-        seen[player] = True
-    return None if seen else 0
 
 
 def _bad_counter(counters):

@@ -20,7 +20,7 @@ def combination(vectors, goal):
     factors = [0 for _ in vectors]
     for pivot, row in reduced:
         factors[pivot] = row[width] * (divisor // row[pivot])
-    lowest = _primitive([*factors, divisor])
+    lowest = primitive([*factors, divisor])
     return (lowest[:-1], lowest[-1])
 
 
@@ -50,22 +50,22 @@ def _reduced(vectors, width):
         chosen = [index for index, row in enumerate(rest) if row[column] != 0]
         if not chosen:
             continue
-        pivot_row = _primitive(rest.pop(chosen[0]))
-        rest = [_cleared(row, pivot_row, column) for row in rest]
-        reduced = [(pivot, _cleared(row, pivot_row, column)) for pivot, row in reduced]
+        pivot_row = primitive(rest.pop(chosen[0]))
+        rest = [cleared(row, pivot_row, column) for row in rest]
+        reduced = [(pivot, cleared(row, pivot_row, column)) for pivot, row in reduced]
         reduced.append((column, pivot_row))
     return reduced
 
 
-def _cleared(row, pivot_row, column):
+def cleared(row, pivot_row, column):
     """A multiple of the row less a multiple of the pivot's row, which has 0 at the pivot."""
     if row[column] == 0:
         return row
     own, factor = pivot_row[column], row[column]
-    return _primitive([own * number - factor * other for number, other in zip(row, pivot_row)])
+    return primitive([own * number - factor * other for number, other in zip(row, pivot_row)])
 
 
-def _primitive(vector):
+def primitive(vector):
     """The vector divided by its greatest common divisor."""
     divisor = 0
     for number in vector:

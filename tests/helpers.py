@@ -2,10 +2,12 @@
 
 import random
 import unittest
+from fractions import Fraction
 
 from playhall.games import Game
 from playhall.gametext import read_game
 from playhall.moves import Move
+from playhall.scorings import Scoring
 
 
 class Checks(unittest.TestCase):
@@ -111,3 +113,105 @@ def all_plays(game, position, length):
         ]
         plays = plays + level
     return plays
+
+
+def random_scoring(rng, moves, *, tallies=2):
+    """A small scoring with rules for some of the moves."""
+    names = ["t", "s", "r"][:tallies]
+
+    def form():
+        return [(rng.choice([-1, 1, 2]), rng.choice([None, *names])) for _ in range(rng.randint(0, 3))]
+
+    rules = [(move, name, form()) for move in moves for name in names if rng.random() < 0.4]
+    return Scoring([(name, rng.randint(-1, 2)) for name in names], rules, form())
+
+
+def fraction_rank(vectors):
+    """The rank of the vectors, by plain elimination over fractions."""
+    rows = [[Fraction(number) for number in vector] for vector in vectors]
+    rank = 0
+    for column in range(len(rows[0]) if rows else 0):
+        found = [at for at in range(rank, len(rows)) if rows[at][column] != 0]
+        if found:
+            rows[rank], rows[found[0]] = rows[found[0]], rows[rank]
+            for at in range(rank + 1, len(rows)):
+                factor = rows[at][column] / rows[rank][column]
+                rows[at] = [own - factor * other for own, other in zip(rows[at], rows[rank])]
+            rank += 1
+    return rank
+
+
+def is_sum(vectors, vector):
+    """Whether the vector is a sum of multiples of the vectors."""
+    return fraction_rank([*vectors, vector]) == fraction_rank(vectors)
+
+
+def shown(game, play):
+    """The list of the signs of a play."""
+    return [game.move(name).sign for name in play if game.move(name).sign is not None]
+
+
+def has_foul(game, play):
+    return any(game.move(name).foul for name in play)
+
+
+def pair_steps(game, first, second):
+    """By the words of point 32: the pairs of positions behind a pair, each with whether the first play
+    makes a move and whether that is a foul. The second play makes no foul."""
+    found = []
+    for move in game.moves:
+        behind = step(game, first, move.name)
+        if behind is not None and move.sign is None:
+            found.append(((behind, second), True, move.foul))
+        if behind is not None and move.sign is not None:
+            for other in game.moves:
+                answer = step(game, second, other.name)
+                if answer is not None and other.sign == move.sign and not other.foul:
+                    found.append(((behind, answer), True, move.foul))
+        still = step(game, second, move.name)
+        if still is not None and move.sign is None and not move.foul:
+            found.append(((first, still), False, False))
+    return found
+
+
+def spread(starts, steps):
+    """All that steps lead to from the starts, where `steps` gives a list for each of them."""
+    found = set(starts)
+    waiting = list(found)
+    while waiting:
+        for behind in steps(waiting.pop()):
+            if behind not in found:
+                found.add(behind)
+                waiting.append(behind)
+    return found
+
+
+def doubtful(game):
+    """The doubtful pairs, as pairs of positions."""
+    def steps(state):
+        return [(pair, state[1] or foul) for pair, _, foul in pair_steps(game, *state[0])]
+
+    return {pair for pair, foul in spread([((game.start, game.start), False)], steps) if foul}
+
+
+def plain_table(game):
+    """For each doubtful pair the greatest number of moves of the first play on a way from it, or None."""
+    pairs = doubtful(game)
+    steps = {pair: pair_steps(game, *pair) for pair in pairs}
+    most = {pair: 0 for pair in pairs}
+    changed = True
+    while changed:
+        later = {pair: max([0] + [most[behind] + made for behind, made, _ in steps[pair]]) for pair in pairs}
+        changed = later != most
+        most = later
+        # Ways with more moves than there are pairs go in a circle.
+        if max(most.values(), default=0) > len(pairs):
+            return None
+    return most
+
+
+def plain_lag(game):
+    table = plain_table(game)
+    if table is None:
+        return None
+    return 1 + max(table.values()) if table else 0

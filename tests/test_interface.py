@@ -31,6 +31,17 @@ FUNCTIONS = {
     "gifts": ["gifts(arena, play, team, targets)", "first_gift(arena, play, team, targets)"],
     "linear": ["rank_of(vectors)", "combination(vectors, goal)", "balance(matrix)"],
     "scoretext": ["write_scoring(scoring)", "read_scoring(text)"],
+    "agreement": [
+        "basis_plays(arena, scoring, other)", "parting_score(arena, scoring, other)",
+        "check_score_paper(arena, scoring, other, plays)"],
+    "twins": ["doubtful_pairs(arena)", "lag_table(arena)"],
+    "referee": ["signs_of(game, play)", "report(arena, signs)", "lag(arena)", "doubt(arena)", "endless_doubt(arena)"],
+    "marks": ["marked(game, names)", "least_marks(game, most, *, limit=2000)"],
+    "flows": ["greatest_flow(nodes, arcs, source, sink)"],
+    "races": ["most_points(season, player)", "completion(season, player)", "overfull_team(season, player)"],
+    "pairings": ["greatest_pairing(count, barred)", "barrier(count, barred)"],
+    "ratings": ["leagues(wins)", "ratings(wins)"],
+    "tasks": ["solve(rows, limits, aims)"],
 }
 CLASSES = {
     "shifts": {"Shift": [
@@ -54,12 +65,16 @@ CLASSES = {
     "scorings": {"Scoring": [
         "__init__(self, tallies, rules, score)", "__eq__(self, other)", "values_after(self, values, move)",
         "value(self, values)", "values_of(self, play)", "score(self, play)"]},
+    "referee": {"Referee": ["__init__(self, arena)", "see(self, sign)"]},
+    "seasons": {"Season": ["__init__(self, players, meetings, *, stake=2)", "enter(self, meeting, points)", "take_back(self)"]},
 }
 PROPERTIES = {
     ("shifts", "Shift"): ["never"],
     ("arenas", "Arena"): ["size", "positions", "ways"],
     ("records", "Record"): [
         "position", "done", "ahead", "done_length", "ahead_length", "entries", "effect", "moves_done"],
+    ("referee", "Referee"): ["signs", "report"],
+    ("seasons", "Season"): ["points", "entered", "left", "ranking", "wins"],
 }
 
 

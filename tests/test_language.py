@@ -119,6 +119,11 @@ class LanguageTest(unittest.TestCase):
             for node in nodes_of(path, ast.BinOp):
                 self.assertFalse(isinstance(node.op, ast.Pow) and not isinstance(node.right, ast.Constant))
 
+    def test_lambdas_with_equal_parameters_stand_on_lines_of_their_own(self):
+        for path in FILES:
+            places = [(node.lineno, ast.unparse(node.args)) for node in nodes_of(path, ast.Lambda)]
+            self.assertEqual(len(set(places)), len(places), path.name)
+
     def test_decorators_and_special_methods(self):
         for path in FILES:
             for node in nodes_of(path, ast.FunctionDef, ast.ClassDef):
