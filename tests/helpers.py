@@ -3,10 +3,13 @@
 import random
 import unittest
 from fractions import Fraction
+from math import prod
 
+from playhall.boxes import Box
 from playhall.games import Game
 from playhall.gametext import read_game
 from playhall.moves import Move
+from playhall.rules import Rule
 from playhall.scorings import Scoring
 
 
@@ -215,3 +218,68 @@ def plain_lag(game):
     if table is None:
         return None
     return 1 + max(table.values()) if table else 0
+
+
+def plain_ranks(arena, team, targets):
+    """The ranks by the words of point 24: in each round the positions that get their rank."""
+    ranks = {number: 0 for number in targets}
+    rank = 0
+    while True:
+        rank += 1
+        new = []
+        for number, row in enumerate(arena.ways):
+            own = [to for name, to in row if arena.game.move(name).player in team]
+            other = [to for name, to in row if arena.game.move(name).player not in team]
+            forced = all(to in ranks for to in other) and (not own or any(to in ranks for to in own))
+            if number not in ranks and row and forced:
+                new.append(number)
+        if not new:
+            return ranks
+        ranks.update({number: rank for number in new})
+
+
+def random_rule(rng, *, parties=2, hands=3, outcomes=3, top=3):
+    """A small rule; worths are from 0 to `top`."""
+    sizes = [rng.randint(1, hands) for _ in range(parties)]
+    worths = [[[rng.randint(0, top) for _ in range(outcomes)] for _ in range(size)] for size in sizes]
+    return Rule(worths, [rng.randrange(outcomes) for _ in range(prod(sizes))])
+
+
+def random_box(rng, rule):
+    """A box inside the full box that is not empty."""
+    return Box([rng.sample(range(size), rng.randint(1, size)) for size in rule.sizes])
+
+
+def constant(rule, box):
+    return len({rule(combination) for combination in box}) == 1
+
+
+def random_form(rng, rule, box, depth=4):
+    """The form of a tree that fits the rule behind a path with this box."""
+    parties = [party for party, side in enumerate(box.sides) if len(side) > 1]
+    if depth == 0 or not parties or rng.random() < 0.15:
+        return ("end", rule(rng.choice(list(box))))
+    party = rng.choice(parties)
+    side = rng.sample(box[party], len(box[party]))
+    cuts = sorted(rng.sample(range(1, len(side)), rng.randint(1, min(3, len(side) - 1))))
+    cells = [side[low:high] for low, high in zip([0, *cuts], [*cuts, len(side)])]
+    return ("ask", party, [(cell, random_form(rng, rule, box.with_side(party, cell), depth - 1)) for cell in cells])
+
+
+def right_form(rng, rule, box):
+    """The form of a tree that carries out the rule in this box."""
+    if constant(rule, box):
+        return ("end", rule(next(iter(box))))
+    party = rng.choice([party for party, side in enumerate(box.sides) if len(side) > 1])
+    cut = rng.randint(1, len(box[party]) - 1)
+    cells = [box[party][:cut], box[party][cut:]]
+    rng.shuffle(cells)
+    return ("ask", party, tuple((cell, right_form(rng, rule, box.with_side(party, cell))) for cell in cells))
+
+
+def chain_form(length):
+    """The form of a tree with as many questions on its longest path; party 0 has one hand more."""
+    form = ("end", length)
+    for hand in reversed(range(length)):
+        form = ("ask", 0, (((hand,), ("end", hand)), (tuple(range(hand + 1, length + 1)), form)))
+    return form

@@ -8,27 +8,9 @@ from playhall.errors import NoCounter, NoGoal, NoPlayer, TooLarge
 from playhall.forcing import answers, forced_ranks, least_start, targets_of, trap
 from playhall.games import Game
 from playhall.gametext import read_game
-from tests.helpers import NIM, Checks, random_games
+from tests.helpers import NIM, Checks, plain_ranks, random_games
 
 TEAMS = [[], ["ann"], ["bob"], ["ann", "bob"], ["bob", "bob"], ["bob", "ann", "bob"]]
-
-
-def plain_ranks(arena, team, targets):
-    """The ranks by the words of point 24: in each round the positions that get their rank."""
-    ranks = {number: 0 for number in targets}
-    rank = 0
-    while True:
-        rank += 1
-        new = []
-        for number, row in enumerate(arena.ways):
-            own = [to for name, to in row if arena.game.move(name).player in team]
-            other = [to for name, to in row if arena.game.move(name).player not in team]
-            forced = all(to in ranks for to in other) and (not own or any(to in ranks for to in own))
-            if number not in ranks and row and forced:
-                new.append(number)
-        if not new:
-            return ranks
-        ranks.update({number: rank for number in new})
 
 
 class TargetsTest(Checks):

@@ -42,6 +42,15 @@ FUNCTIONS = {
     "pairings": ["greatest_pairing(count, barred)", "barrier(count, barred)"],
     "ratings": ["leagues(wins)", "ratings(wins)"],
     "tasks": ["solve(rows, limits, aims)"],
+    "shares": ["steady_share(worths)", "balanced_teams(worths)", "least_purse(worths)", "mean_share(worths)"],
+    "teamworths": ["forced_worth(arena, team, prizes)", "forced_worths(arena, prizes)"],
+    "combos": ["combinations(sides)"],
+    "ties": [
+        "reach(rule, box, party, hand)", "floor(rule, box, party, hand)", "promise(rule, box, party, hand, cell)",
+        "tie(rule, box, party, first, second)", "groups(rule, box, party)"],
+    "judging": [
+        "box_at(rule, tree, path)", "fits(rule, tree)", "first_wrong(rule, tree)", "lures(rule, tree)",
+        "parting(box, tree)"],
 }
 CLASSES = {
     "shifts": {"Shift": [
@@ -65,6 +74,13 @@ CLASSES = {
     "scorings": {"Scoring": [
         "__init__(self, tallies, rules, score)", "__eq__(self, other)", "values_after(self, values, move)",
         "value(self, values)", "values_of(self, play)", "score(self, play)"]},
+    "boxes": {"Box": [
+        "__init__(self, sides)", "__iter__(self)", "__contains__(self, x)", "__getitem__(self, at)", "within(self, other)",
+        "__and__(self, other)", "__sub__(self, other)", "with_side(self, party, side)"]},
+    "rules": {"Rule": [
+        "__init__(self, worths, table)", "__call__(self, combination)", "worth(self, party, hand, outcome)",
+        "cut(self, box)"]},
+    "trees": {"Tree": ["__init__(self, form)", "__call__(self, combination)", "ends(self)", "cut(self, box)"]},
     "referee": {"Referee": ["__init__(self, arena)", "see(self, sign)"]},
     "seasons": {"Season": ["__init__(self, players, meetings, *, stake=2)", "enter(self, meeting, points)", "take_back(self)"]},
 }
@@ -109,7 +125,7 @@ class InterfaceTest(unittest.TestCase):
                 self.assertIsInstance(vars(found)[row], property)
 
     def test_generators(self):
-        for module, name in (("positions", "walk"), ("gifts", "gifts")):
+        for module, name in (("positions", "walk"), ("gifts", "gifts"), ("combos", "combinations")):
             self.assertTrue(inspect.isgeneratorfunction(getattr(import_module(f"playhall.{module}"), name)))
 
     def test_limits(self):
