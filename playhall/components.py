@@ -13,7 +13,8 @@ def components(ways):
     # What was finished last reaches all that is left, or is not reached by it.
     for root in _finished(ways)[::-1]:
         if root not in numbers:
-            for node in _reached(sources, root, numbers):
+            found = _reached(sources, root, numbers)
+            for node in found:
                 numbers[node] = count
             count += 1
     return [numbers[node] for node in range(len(ways))]
@@ -45,7 +46,8 @@ def _reached(ways, root, barred):
     seen = {root: True}
     at = 0
     while at < len(order):
-        for to in ways[order[at]]:
+        node = order[at]
+        for to in ways[node]:
             if to not in seen and to not in barred:
                 seen[to] = True
                 order.append(to)

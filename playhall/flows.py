@@ -38,9 +38,10 @@ def _arrivals(arcs, amounts, steps_at, source):
     order = [source]
     at = 0
     while at < len(order):
-        for node, step in steps_at[order[at]]:
+        present = order[at]
+        for node, step in steps_at[present]:
             if node not in found and _room(arcs, amounts, step) > 0:
-                found[node] = (order[at], step)
+                found[node] = (present, step)
                 order.append(node)
         at += 1
     return found

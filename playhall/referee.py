@@ -120,9 +120,10 @@ def _shortest_way(source, steps_from, is_end):
     arrivals = {source: None}
     at = 0
     while not is_end(states[at]):
-        for state, first, second in steps_from(states[at]):
+        present = states[at]
+        for state, first, second in steps_from(present):
             if state not in arrivals:
-                arrivals[state] = (states[at], first, second)
+                arrivals[state] = (present, first, second)
                 states.append(state)
         at += 1
     return _moves_on(arrivals, states[at])

@@ -92,9 +92,8 @@ def _solution(board, count):
     """The tuple of the numbers, the tolls and what all of them are multiplied by."""
     worths = {quantity: board.cells[row][-1] for row, quantity in enumerate(board.held)}
     losses = {quantity: board.cells[-1][column] for column, quantity in enumerate(board.free)}
-    limits = range(count, count + len(board.held))
     lowest = primitive([
         *[worths.get(quantity, 0) for quantity in range(count)],
-        *[losses.get(quantity, 0) for quantity in limits],
+        *[losses.get(quantity, 0) for quantity in range(count, count + len(board.held))],
         board.whole])
     return (lowest[:count], lowest[count:-1], lowest[-1])

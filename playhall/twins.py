@@ -10,7 +10,8 @@ def doubtful_pairs(arena):
     seen = {states[0]: True}
     at = 0
     while at < len(states):
-        for state, _, _ in twin_steps(ways, states[at]):
+        present = states[at]
+        for state, _, _ in twin_steps(ways, present):
             if state not in seen:
                 seen[state] = True
                 states.append(state)
