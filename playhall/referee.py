@@ -2,7 +2,7 @@
 
 from playhall.components import components
 from playhall.errors import Impossible
-from playhall.twins import doubtful_ways, lag_table, twin_steps, ways_by_sign
+from playhall.twins import lag_table, twin_net, twin_steps, ways_by_sign
 
 
 def signs_of(game, play):
@@ -64,7 +64,7 @@ def doubt(arena):
     most = max(list(table.values()))
     pair = [pair for pair, number in table.items() if number == most][0]
     # No play to this pair has moves behind its first foul: there would be more on the whole way.
-    first, second = _plays_to(ways, pair)
+    first, second = _way_between(ways, (0, 0, False), (*pair, True))
     later, answered = _shortest_way(
         (*pair, True),
         lambda state: _greatest_steps(ways, table, state),
@@ -82,29 +82,24 @@ def _greatest_steps(ways, table, state):
 def endless_doubt(arena):
     """A foul play, its round, a clean play and its round, where both plays look alike, and so do
     the rounds; None if there is a lag."""
-    pairs, made, unmade = doubtful_ways(arena)
+    states, made, unmade = twin_net(arena)
     numbers = components([[*row, *others] for row, others in zip(made, unmade)])
-    inner = [(pairs[at], pairs[to]) for at, row in enumerate(made) for to in row if numbers[at] == numbers[to]]
+    inner = [(states[at], states[to]) for at, row in enumerate(made) for to in row if numbers[at] == numbers[to]]
     if not inner:
         return None
     ways = ways_by_sign(arena)
-    first, second = _plays_to(ways, inner[0][0])
+    first, second = _way_between(ways, states[0], inner[0][0])
     first_round, second_round = _round_by(ways, inner[0][0], inner[0][1])
     return (first, first_round, second, second_round)
 
 
-def _round_by(ways, pair, behind):
+def _round_by(ways, source, behind):
     """The moves of both plays on a way that begins with a step with a move of the first play from
-    the pair to the one behind, and leads back to the pair."""
-    state, first, second = [step for step in twin_steps(ways, (*pair, True))
-                            if step[0] == (*behind, True) and step[1] is not None][0]
-    later, answered = _way_between(ways, state, (*pair, True))
+    the source to the state behind, and leads back to the source."""
+    first, second = [(name, answer) for state, name, answer in twin_steps(ways, source)
+                     if state == behind and name is not None][0]
+    later, answered = _way_between(ways, behind, source)
     return ([first, *later], answered if second is None else [second, *answered])
-
-
-def _plays_to(ways, pair):
-    """A foul play and a clean one that look alike and lead to a doubtful pair."""
-    return _way_between(ways, (0, 0, False), (*pair, True))
 
 
 def _way_between(ways, source, goal):

@@ -5,49 +5,46 @@ from playhall.components import components
 
 def doubtful_pairs(arena):
     """The doubtful pairs, in ascending order."""
-    ways = ways_by_sign(arena)
-    states = [(0, 0, False)]
-    seen = {states[0]: True}
-    at = 0
-    while at < len(states):
-        present = states[at]
-        for state, _, _ in twin_steps(ways, present):
-            if state not in seen:
-                seen[state] = True
-                states.append(state)
-        at += 1
+    states, _, _ = twin_net(arena)
     return sorted([(first, second) for first, second, foul in states if foul])
 
 
 def lag_table(arena):
     """For each doubtful pair the greatest number of moves that the first play can still make,
     or None if one of these numbers has no limit."""
-    pairs, made, unmade = doubtful_ways(arena)
+    states, made, unmade = twin_net(arena)
     numbers = components([[*row, *others] for row, others in zip(made, unmade)])
     if any([numbers[at] == numbers[to] for at, row in enumerate(made) for to in row]):
         return None
-    most = [0 for _ in pairs]
+    # States of the same component have the same greatest number, which is kept at the component.
+    most = [0 for _ in states]
     for _, at in sorted([(-number, at) for at, number in enumerate(numbers)]):
         own = numbers[at]
-        # Pairs of the same component have the same number, which is kept at the component.
         found = [most[numbers[to]] + 1 for to in made[at]] + [most[numbers[to]] for to in unmade[at]]
         most[own] = max([most[own], *found])
-    return {pair: most[number] for pair, number in zip(pairs, numbers)}
+    return {(first, second): most[number] for (first, second, foul), number in zip(states, numbers) if foul}
 
 
-def doubtful_ways(arena):
-    """The doubtful pairs, and for each of them the indexes of the pairs that are behind it after
-    a step with a move of the first play, and after a step without one."""
+def twin_net(arena):
+    """The states of two plays that look alike, and for each state with a foul the indexes of the
+    states behind it after a step with a move of the first play, and after a step without one."""
     ways = ways_by_sign(arena)
-    pairs = doubtful_pairs(arena)
-    places = {pair: place for place, pair in enumerate(pairs)}
+    states = [(0, 0, False)]
+    places = {states[0]: 0}
     made, unmade = [], []
-    for first, second in pairs:
-        found = [(places[(state[0], state[1])], name is None)
-                 for state, name, _ in twin_steps(ways, (first, second, True))]
-        made.append(sorted(set([place for place, is_still in found if not is_still])))
-        unmade.append(sorted(set([place for place, is_still in found if is_still])))
-    return pairs, made, unmade
+    while len(made) < len(states):
+        present = states[len(made)]
+        steps_made, steps_unmade = {}, {}
+        for state, name, _ in twin_steps(ways, present):
+            if state not in places:
+                places[state] = len(states)
+                states.append(state)
+            if present[2]:
+                rows = steps_unmade if name is None else steps_made
+                rows[places[state]] = True
+        made.append(list(steps_made))
+        unmade.append(list(steps_unmade))
+    return states, made, unmade
 
 
 def ways_by_sign(arena):

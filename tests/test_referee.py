@@ -128,6 +128,12 @@ class LagTest(unittest.TestCase):
             self.assertEqual(lag(arena=Arena(game)), 0)
             self.judge_doubt(game)
 
+    def test_a_pair_that_clean_plays_reach_too(self):
+        game = read_game("players p\ncounter a 1 0\nmove fine p do a+1 show s\nmove cheat p do a+1 show s foul")
+        self.assertEqual(doubt(Arena(game)), (["cheat"], ["fine"]))
+        game = read_game("players p\nmove fine p show s\nmove cheat p show s foul")
+        self.judge_endless(game)
+
     def test_a_second_round_that_is_empty(self):
         self.judge_endless(SILENT)
         self.assertEqual(endless_doubt(arena=Arena(SILENT)), (["cheat"], ["round"], [], []))
