@@ -1,7 +1,7 @@
 """Boxes: sets of combinations with a side of hands for each party."""
 
 from playhall.askerrors import BadBox
-from playhall.combos import combinations
+from playhall.combos import all_combinations
 from playhall.counts import is_count
 
 
@@ -12,7 +12,7 @@ class Box:
         if not sides or not all([is_count(hand) for side in sides for hand in side]):
             raise BadBox()
         self.sides = tuple([tuple(sorted(set(side))) for side in sides])
-        self._combinations = tuple(combinations(self.sides))
+        self._combinations = tuple(all_combinations(self.sides))
 
     def __iter__(self):
         return iter(self._combinations)

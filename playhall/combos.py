@@ -3,11 +3,21 @@
 
 def combinations(sides):
     """Yields all combinations with one hand of each side; the last side changes fastest."""
+    for number in range(_how_many(sides)):
+        yield _combination(sides, number)
+
+
+def all_combinations(sides):
+    """The list of what `combinations` yields. No generator runs here, so that operators may ask for it."""
+    return [_combination(sides, number) for number in range(_how_many(sides))]
+
+
+def _how_many(sides):
+    """The number of the combinations."""
     many = 1
     for side in sides:
         many = many * len(side)
-    for number in range(many):
-        yield _combination(sides, number)
+    return many
 
 
 def _combination(sides, number):

@@ -4,7 +4,7 @@ import inspect
 import unittest
 from itertools import product
 
-from playhall.combos import combinations
+from playhall.combos import all_combinations, combinations
 
 
 class CombosTest(unittest.TestCase):
@@ -31,6 +31,10 @@ class CombosTest(unittest.TestCase):
         sides = [[0], [1]]
         list(combinations(sides))
         self.assertEqual(sides, [[0], [1]])
+
+    def test_the_list_for_boxes(self):
+        for sides in ([], [[]], [[7]], [[0, 2], [5], [1, 0, 4]], ((3, 1), (2, 0)), [[1, 1], [2, 2]]):
+            self.assertEqual(all_combinations(sides), list(combinations(sides)))
 
 
 if __name__ == "__main__":
