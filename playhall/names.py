@@ -23,6 +23,11 @@ def is_number(text):
     return text != "" and not text.startswith("0") and _consists_of(text, DIGITS)
 
 
+def is_signed(text):
+    """Whether the text is a number, or a minus and a number other than 0."""
+    return is_number(text.removeprefix("-")) and text != "-0"
+
+
 def _consists_of(text, letters):
     # Not by isdigit and the like, which know letters and digits of other scripts too.
     return all([letter in letters for letter in text])

@@ -2,7 +2,7 @@
 
 from playhall.errors import BadLine
 from playhall.lines import lines_of
-from playhall.names import is_number
+from playhall.names import is_number, is_signed
 from playhall.scorings import Scoring
 
 KINDS = ("tally", "on", "score")
@@ -52,11 +52,9 @@ def read_scoring(text):
 
 
 def _read_start(line):
-    word = line.at(2)
-    negative = word.startswith("-")
-    line.demand(2, is_number(word[1:] if negative else word) and word != "-0")
+    line.demand(2, is_signed(line.at(2)))
     line.finish(3)
-    return int(word)
+    return int(line.at(2))
 
 
 def _read_rule(line, tallies, rules):

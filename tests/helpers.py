@@ -3,14 +3,17 @@
 import random
 import unittest
 from fractions import Fraction
+from itertools import product
 from math import prod
 
 from playhall.boxes import Box
 from playhall.games import Game
 from playhall.gametext import read_game
+from playhall.houses import House
 from playhall.moves import Move
 from playhall.rules import Rule
 from playhall.scorings import Scoring
+from playhall.sessions import Session
 
 
 class Checks(unittest.TestCase):
@@ -283,3 +286,154 @@ def chain_form(length):
     for hand in reversed(range(length)):
         form = ("ask", 0, (((hand,), ("end", hand)), (tuple(range(hand + 1, length + 1)), form)))
     return form
+
+
+def with_sides(sides, party, side):
+    return (*sides[:party], tuple(side), *sides[party + 1:])
+
+
+def plain_rule(rng, sizes, count):
+    """A rule that is made with a plain tree, which has at most `count` ends with outcomes of their own. A hand is
+    worth something between 50 and 100 where the outcome can be its own, and just its floor where the
+    answers depart from it, so that questions of large boxes tempt."""
+    ends = []
+
+    def grow(sides, many, way):
+        open_parties = [party for party, side in enumerate(sides) if len(side) > 1]
+        if many < 2 or not open_parties:
+            ends.append((sides, way))
+            return
+        party = rng.choice(open_parties)
+        side = rng.sample(sides[party], len(sides[party]))
+        cut = rng.randint(1, len(side) - 1)
+        half = rng.randint(1, many - 1)
+        for cell, part in ((sorted(side[:cut]), half), (sorted(side[cut:]), many - half)):
+            grow(with_sides(sides, party, cell), part, (*way, (party, tuple(cell))))
+
+    grow(tuple(tuple(range(size)) for size in sizes), count, ())
+
+    def worth_of(party, hand):
+        row = [rng.randint(50, 100) if hand in sides[party] else None for sides, _ in ends]
+        own = [at for at, (sides, _) in enumerate(ends) if hand in sides[party]]
+        for at, (_, way) in enumerate(ends):
+            if row[at] is None:
+                depth = [step for step, (asked, cell) in enumerate(way) if asked == party and hand not in cell][0]
+                row[at] = min(row[other] for other in own if ends[other][1][:depth] == way[:depth])
+        return row
+
+    worths = [[worth_of(party, hand) for hand in range(size)] for party, size in enumerate(sizes)]
+    table = []
+    for combination in product(*[range(size) for size in sizes]):
+        table.append([at for at, (sides, _) in enumerate(ends)
+                      if all(hand in side for hand, side in zip(combination, sides))][0])
+    return Rule(worths, table)
+
+
+def partitions(hands):
+    """All ways to divide the hands into cells."""
+    if not hands:
+        return [[]]
+    found = []
+    for rest in partitions(hands[1:]):
+        found.append([[hands[0]], *rest])
+        found.extend([[*rest[:at], [hands[0], *cell], *rest[at + 1:]] for at, cell in enumerate(rest)])
+    return found
+
+
+def is_plain_question(rule, sides, party, cells):
+    """Whether a question is plain in the box with these sides, by the words of point 47."""
+    rows = [(combination[party], rule(combination)) for combination in product(*sides)]
+    for cell in cells:
+        for hand in cell:
+            floor = min(rule.worth(party, hand, outcome) for own, outcome in rows if own == hand)
+            outside = [rule.worth(party, hand, outcome) for own, outcome in rows if own not in cell]
+            if outside and floor < max(outside):
+                return False
+    return True
+
+
+def plain_due(rule, sides):
+    """The least length of a plain tree in the box with these sides, over all trees; None if there is none."""
+    if len({rule(combination) for combination in product(*sides)}) == 1:
+        return 0
+    lengths = []
+    for party, side in enumerate(sides):
+        for cells in partitions(list(side)):
+            if len(cells) > 1 and is_plain_question(rule, sides, party, cells):
+                behind = [plain_due(rule, with_sides(sides, party, cell)) for cell in cells]
+                if None not in behind:
+                    lengths.append(1 + max(behind))
+    return min(lengths, default=None)
+
+
+def random_house(rng, *, tools=2, sessions=3, beats=3, top=2, worth=4):
+    """A small house; some sessions may need more than there is."""
+    names = ["oven", "b", "a", "d"][:tools]
+    menu = []
+    for _ in range(sessions):
+        needs = [(rng.randrange(beats), rng.choice(names), rng.choice([1, 1, 1, 2])) for _ in range(rng.randint(1, 3))]
+        name = rng.choice(["one", "two", "three"])
+        menu.append(Session(name, needs, first=rng.randint(-worth, worth), second=rng.randint(-worth, worth)))
+    return House([(name, rng.randint(0, top)) for name in names], menu)
+
+
+def small_houses(seed, count, *, most=40, **kinds):
+    """Random houses with at most as many reachable loads."""
+    rng = random.Random(seed)
+    while count > 0:
+        house = random_house(rng, **kinds)
+        if len(plain_loads(house, most)) <= most:
+            count -= 1
+            yield rng, house
+
+
+def plain_step(house, load, index):
+    """The load after a start of a session by the words of point 60, or None if it does not fit."""
+    rows = [list(row) for row in load]
+    for beat, tool, amount in house.menu[index].needs:
+        place = house.tools.index(tool)
+        rows[beat][place] += amount
+        if rows[beat][place] > house.numbers[place]:
+            return None
+    return tuple(map(tuple, rows))
+
+
+def plain_beat(house, load):
+    return (*load[1:], (0,) * len(house.tools))
+
+
+def plain_loads(house, most=None):
+    """All reachable loads, or more than `most` of them."""
+    found = [((0,) * len(house.tools),) * house.horizon]
+    for load in found:
+        behind = [plain_step(house, load, index) for index in range(len(house.menu))]
+        for other in [*behind, plain_beat(house, load)]:
+            if other is not None and other not in found:
+                found.append(other)
+        if most is not None and len(found) > most:
+            break
+    return found
+
+
+def plain_use(house, schedule, ring=False):
+    """How much is used: a dict from (beat, tool) to the amount, by the words of point 61."""
+    used = {}
+    for start, window in enumerate(schedule):
+        for session, times in zip(house.menu, window):
+            for beat, tool, amount in session.needs:
+                at = (start + beat) % len(schedule) if ring else start + beat
+                used[(at, tool)] = used.get((at, tool), 0) + times * amount
+    return used
+
+
+def plain_lack(house, schedule, ring=False):
+    """The first lack of a schedule or of a ring, or None."""
+    lacks = [(beat, house.tools.index(tool)) for (beat, tool), used in plain_use(house, schedule, ring).items()
+             if used > house.numbers[house.tools.index(tool)]]
+    return None if not lacks else (min(lacks)[0], house.tools[min(lacks)[1]])
+
+
+def plain_totals(house, schedule):
+    return (sum(times * session.first for window in schedule for session, times in zip(house.menu, window)),
+            sum(times * session.second for window in schedule for session, times in zip(house.menu, window)),
+            len(schedule))

@@ -51,6 +51,15 @@ FUNCTIONS = {
     "judging": [
         "box_at(rule, tree, path)", "fits(rule, tree)", "first_wrong(rule, tree)", "lures(rule, tree)",
         "parting(box, tree)"],
+    "deciding": ["questions_due(rule, box)", "shortest_tree(rule, *, most=100)", "stuck_box(rule)"],
+    "rounds": ["turned(run, deed)"],
+    "sealed": ["lies(rule, *, least=1)", "first_lie(rule, *, least=1)"],
+    "treetext": ["write_tree(tree)", "read_tree(text)"],
+    "sessiontext": ["read_session(line)", "write_session(session)"],
+    "houses": ["ask_closed(house, tool, question)"],
+    "loads": [
+        "empty_load(house)", "after_beat(load)", "after_start(house, load, index)", "steps(house, load)", "all_loads(house)"],
+    "mixes": ["lowest(mix)"],
 }
 CLASSES = {
     "shifts": {"Shift": [
@@ -83,6 +92,17 @@ CLASSES = {
     "trees": {"Tree": ["__init__(self, form)", "__call__(self, combination)", "ends(self)", "cut(self, box)"]},
     "referee": {"Referee": ["__init__(self, arena)", "see(self, sign)"]},
     "seasons": {"Season": ["__init__(self, players, meetings, *, stake=2)", "enter(self, meeting, points)", "take_back(self)"]},
+    "rounds": {
+        "Round": [
+            "__init__(self, tree, *, patience=3, default=0)", "say(self, party, branch)", "wait(self)", "take(self, answers)",
+            "honest(self, hand)"],
+        "Turn": ["__init__(self, run)", "__enter__(self)", "__exit__(self, kind, value, trace)"]},
+    "sessions": {"Session": [
+        "__init__(self, name, needs, *, first=0, second=0)", "__lshift__(self, other)", "__or__(self, other)",
+        "__invert__(self)", "__eq__(self, other)"]},
+    "houses": {"House": [
+        "__init__(self, tools, menu)", "number_of(self, tool)", "with_number(self, tool, number)",
+        "with_session(self, session)", "closed(self, tool)"]},
 }
 PROPERTIES = {
     ("shifts", "Shift"): ["never"],
@@ -91,6 +111,8 @@ PROPERTIES = {
         "position", "done", "ahead", "done_length", "ahead_length", "entries", "effect", "moves_done"],
     ("referee", "Referee"): ["signs", "report"],
     ("seasons", "Season"): ["points", "entered", "left", "ranking", "wins"],
+    ("sessions", "Session"): ["duration", "pair"],
+    ("houses", "House"): ["tools", "numbers", "menu", "horizon"],
 }
 
 
@@ -125,12 +147,16 @@ class InterfaceTest(unittest.TestCase):
                 self.assertIsInstance(vars(found)[row], property)
 
     def test_generators(self):
-        for module, name in (("positions", "walk"), ("gifts", "gifts"), ("combos", "combinations")):
+        for module, name in (("positions", "walk"), ("gifts", "gifts"), ("combos", "combinations"), ("sealed", "lies"),
+                             ("loads", "steps")):
             self.assertTrue(inspect.isgeneratorfunction(getattr(import_module(f"playhall.{module}"), name)))
 
     def test_limits(self):
         self.assertEqual(import_module("playhall.arenas").LIMIT, 2000)
         self.assertEqual(import_module("playhall.likeness").LIMIT, 2000)
+        self.assertEqual(import_module("playhall.deciding").MOST_QUESTIONS, 100)
+        self.assertEqual((import_module("playhall.rounds").PATIENCE, import_module("playhall.rounds").FIRST), (3, 0))
+        self.assertEqual(import_module("playhall.sealed").LEAST_GAIN, 1)
 
 
 if __name__ == "__main__":

@@ -2,7 +2,7 @@
 
 import unittest
 
-from playhall.names import is_label, is_name, is_number
+from playhall.names import is_label, is_name, is_number, is_signed
 
 
 class NamesTest(unittest.TestCase):
@@ -30,6 +30,12 @@ class NamesTest(unittest.TestCase):
         for text in ["", "00", "01", "007", "-1", "+1", "-0", " 1", "1 ", "1\n", "\n1", "1.0", "1_0", "a", "1a", "a1",
                      "0x1", "\u0661", "\u00b2", "1\u0661"]:
             self.assertIs(is_number(text), False, text)
+
+    def test_signed_numbers(self):
+        for text in ["0", "7", "-7", "10", "-10", "-" + "9" * 40]:
+            self.assertIs(is_signed(text), True, text)
+        for text in ["", "-", "-0", "--1", "+1", "01", "-01", "1-", " 1", "- 1", "a", "-a", "00"]:
+            self.assertIs(is_signed(text), False, text)
 
 
 if __name__ == "__main__":
