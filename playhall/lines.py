@@ -1,7 +1,7 @@
 """Texts are read line by line and word by word; each word is judged when it is reached."""
 
 from playhall.errors import BadLine
-from playhall.names import is_label, is_number
+from playhall.names import is_label, is_number, is_signed
 
 
 class Line:
@@ -37,6 +37,11 @@ class Line:
     def natural(self, index):
         """The number that is the word with this index."""
         self.demand(index, is_number(self.at(index)))
+        return int(self.at(index))
+
+    def signed(self, index):
+        """The number that is the word with this index, which may have a minus."""
+        self.demand(index, is_signed(self.at(index)))
         return int(self.at(index))
 
 

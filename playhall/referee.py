@@ -14,23 +14,23 @@ def signs_of(game, play):
 def report(arena, signs):
     """Whether some legal clean play, and whether some legal foul play, has these signs."""
     ways = ways_by_sign(arena)
-    views = _settled(ways, [(0, False)])
+    views = settled(ways, [(0, False)])
     for sign in signs:
-        views = _views_behind(ways, views, sign)
-    return _verdict(views)
+        views = views_behind(ways, views, sign)
+    return verdict(views)
 
 
-def _verdict(views):
+def verdict(views):
     """Whether a clean view is left, and whether a foul one is."""
     return (any([not foul for _, foul in views]), any([foul for _, foul in views]))
 
 
-def _views_behind(ways, views, sign):
+def views_behind(ways, views, sign):
     """What may be the case after a sign: pairs of the number of a position and whether the play was foul."""
-    return _settled(ways, [(to, foul or new) for number, foul in views for _, to, new in ways[number].get(sign, [])])
+    return settled(ways, [(to, foul or new) for number, foul in views for _, to, new in ways[number].get(sign, [])])
 
 
-def _settled(ways, views):
+def settled(ways, views):
     """What may be the case after moves without a sign."""
     seen = {view: True for view in views}
     found = list(seen)
@@ -140,7 +140,7 @@ class Referee:
     def __init__(self, arena):
         self._ways = ways_by_sign(arena)
         self._seen = ()
-        self._views = _settled(self._ways, [(0, False)])
+        self._views = settled(self._ways, [(0, False)])
 
     @property
     def signs(self):
@@ -150,11 +150,11 @@ class Referee:
     @property
     def report(self):
         """Whether some legal clean play, and whether some legal foul play, has these signs."""
-        return _verdict(self._views)
+        return verdict(self._views)
 
     def see(self, sign):
         """Takes the next sign and returns the report; raises Impossible."""
-        views = _views_behind(self._ways, self._views, sign)
+        views = views_behind(self._ways, self._views, sign)
         if not views:
             raise Impossible(sign)
         self._seen = (*self._seen, sign)

@@ -2,7 +2,7 @@
 
 from playhall.errors import BadLine
 from playhall.lines import lines_of
-from playhall.names import is_number, is_signed
+from playhall.names import is_number
 from playhall.scorings import Scoring
 
 KINDS = ("tally", "on", "score")
@@ -40,7 +40,8 @@ def read_scoring(text):
         first_kind = KINDS.index(kind)
         if kind == "tally":
             name = line.label(1, tallies)
-            tallies[name] = (name, _read_start(line))
+            tallies[name] = (name, line.signed(2))
+            line.finish(3)
         elif kind == "on":
             move, tally, rule_form = _read_rule(line, tallies, rules)
             rules[(move, tally)] = (move, tally, rule_form)
@@ -49,12 +50,6 @@ def read_scoring(text):
     if form is None:
         raise BadLine(len(lines) + 1, 0)
     return Scoring(list(tallies.values()), list(rules.values()), form)
-
-
-def _read_start(line):
-    line.demand(2, is_signed(line.at(2)))
-    line.finish(3)
-    return int(line.at(2))
 
 
 def _read_rule(line, tallies, rules):

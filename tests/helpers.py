@@ -437,3 +437,66 @@ def plain_totals(house, schedule):
     return (sum(times * session.first for window in schedule for session, times in zip(house.menu, window)),
             sum(times * session.second for window in schedule for session, times in zip(house.menu, window)),
             len(schedule))
+
+
+def still_window(house):
+    return (0,) * len(house.menu)
+
+
+def plain_prices(house, bound):
+    """By the words of point 65: for each reachable load the greatest sum over all finite sequences of steps from it,
+    or None if there is no greatest one."""
+    a, b, c = bound
+    loads = plain_loads(house)
+    ways = {}
+    for load in loads:
+        started = [(a * session.first + b * session.second, plain_step(house, load, index))
+                   for index, session in enumerate(house.menu)]
+        ways[load] = [(gain, behind) for gain, behind in started if behind is not None] + [(-c, plain_beat(house, load))]
+    prices = {load: 0 for load in loads}
+    # A greatest sum is that of a sequence that comes to no load twice.
+    for _ in range(len(loads) + 1):
+        before = prices
+        prices = {load: max([before[load]] + [gain + before[behind] for gain, behind in ways[load]]) for load in loads}
+        if prices == before:
+            return prices
+    return None
+
+
+def bound_value(bound, totals):
+    """What a bound says about some totals: not above 0 if it holds for them."""
+    return bound[0] * totals[0] + bound[1] * totals[1] - bound[2] * totals[2]
+
+
+def fractions_of(mix):
+    return (Fraction(mix[0], mix[2]), Fraction(mix[1], mix[2]))
+
+
+def turn_of(one, other, third):
+    """Above 0 if three points follow each other counterclockwise."""
+    return (other[0] - one[0]) * (third[1] - one[1]) - (other[1] - one[1]) * (third[0] - one[0])
+
+
+def plain_hull(points):
+    """The corners of the least convex polygon of some points, counterclockwise, beginning with the least point."""
+    points = sorted(set(points))
+    if len(points) == 1:
+        return points
+    halves = []
+    for row in (points, points[::-1]):
+        chain = []
+        for point in row:
+            while len(chain) > 1 and turn_of(chain[-2], chain[-1], point) <= 0:
+                chain.pop()
+            chain.append(point)
+        halves.append(chain[:-1])
+    return halves[0] + halves[1]
+
+
+def in_hull(corners, point):
+    """Whether a point lies in the polygon with these corners, which are listed counterclockwise."""
+    if len(corners) == 1:
+        return point == corners[0]
+    if len(corners) == 2:
+        return turn_of(*corners, point) == 0 and min(corners) <= point <= max(corners)
+    return all(turn_of(one, other, point) >= 0 for one, other in zip(corners, corners[1:] + corners[:1]))

@@ -60,6 +60,21 @@ FUNCTIONS = {
     "loads": [
         "empty_load(house)", "after_beat(load)", "after_start(house, load, index)", "steps(house, load)", "all_loads(house)"],
     "mixes": ["lowest(mix)"],
+    "schedules": [
+        "first_lack(house, schedule)", "schedule_totals(house, schedule)", "ring_lack(house, ring)", "ring_mean(house, ring)"],
+    "prices": ["price_list(house, bound)", "tight_schedule(house, bound)"],
+    "regions": ["best_ring(house, a, b)", "region_of(house)", "corner_rings(house)"],
+    "wishes": [
+        "portions(house, mix)", "plan(house, mix, blocks)", "parting_mix(region, other)",
+        "least_number(house, tool, mix, *, most=3)"],
+    "claimtext": ["write_claims(entries)", "read_claims(text)"],
+    "gamesessions": [
+        "game_session(arena, team, goal, name, tools, *, first=1, second=0)",
+        "play_session(game, play, name, tools, *, first=1, second=0)"],
+    "matches": [
+        "match_points(game, position, stake)", "season_of(hall, *, stake=2)", "enter_results(season, hall, play)",
+        "met_pairs(season)"],
+    "choices": ["choice_rule(games, stocks, prizes, hands, table)"],
 }
 CLASSES = {
     "shifts": {"Shift": [
@@ -103,6 +118,12 @@ CLASSES = {
     "houses": {"House": [
         "__init__(self, tools, menu)", "number_of(self, tool)", "with_number(self, tool, number)",
         "with_session(self, session)", "closed(self, tool)"]},
+    "polygons": {"Region": [
+        "__init__(self, mixes)", "__contains__(self, x)", "within(self, other)", "__eq__(self, other)", "bar(self, mix)",
+        "weights(self, mix)"]},
+    "claims": {"Desk": [
+        "__init__(self, arena, scoring)", "judged(self, entries)", "first_false(self, entries)",
+        "full_record(self, entries, team)"]},
 }
 PROPERTIES = {
     ("shifts", "Shift"): ["never"],
@@ -113,6 +134,7 @@ PROPERTIES = {
     ("seasons", "Season"): ["points", "entered", "left", "ranking", "wins"],
     ("sessions", "Session"): ["duration", "pair"],
     ("houses", "House"): ["tools", "numbers", "menu", "horizon"],
+    ("polygons", "Region"): ["corners", "edges"],
 }
 
 
@@ -148,8 +170,10 @@ class InterfaceTest(unittest.TestCase):
 
     def test_generators(self):
         for module, name in (("positions", "walk"), ("gifts", "gifts"), ("combos", "combinations"), ("sealed", "lies"),
-                             ("loads", "steps")):
+                             ("loads", "steps"), ("wishes", "plan")):
             self.assertTrue(inspect.isgeneratorfunction(getattr(import_module(f"playhall.{module}"), name)))
+        self.assertTrue(inspect.isgeneratorfunction(import_module("playhall.trees").Tree.ends))
+        self.assertTrue(inspect.isgeneratorfunction(import_module("playhall.claims").Desk.judged))
 
     def test_limits(self):
         self.assertEqual(import_module("playhall.arenas").LIMIT, 2000)
