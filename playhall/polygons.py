@@ -81,7 +81,7 @@ def _following(points, corner):
     """The corner that follows counterclockwise, or the corner itself if there is no other point."""
     chosen = corner
     for point in points:
-        if chosen == corner or (point != corner and _is_outer(corner, chosen, point)):
+        if chosen == corner or _is_outer(corner, chosen, point):
             chosen = point
     return chosen
 

@@ -32,8 +32,9 @@ def region_with_rings(house):
     region = Region(list(rings))
     # The edges that no ring beats.
     final = {}
-    while len(final) == 0 or not all([edge in final for edge in region.edges]):
-        edge = [edge for edge in region.edges if edge not in final][0]
+    waiting = region.edges
+    while waiting:
+        edge = waiting[0]
         ring = best_ring_in(net, gains_of(house, edge[0], edge[1]))
         mean = ring_mean(house, ring)
         if edge[0] * mean[0] + edge[1] * mean[1] > edge[2] * mean[2]:
@@ -41,4 +42,5 @@ def region_with_rings(house):
             region = Region(list(rings))
         else:
             final[edge] = True
+        waiting = [edge for edge in region.edges if edge not in final]
     return region, [rings[corner] for corner in region.corners]

@@ -74,7 +74,7 @@ class Round:
 
 def _said(tree, place, party, branch):
     """The place behind an answer."""
-    if place.node.party is None or party != place.node.party or not 0 <= branch < len(place.node.cells):
+    if party != place.node.party or not 0 <= branch < len(place.node.cells):
         raise BadAnswer(place.node.path)
     return _behind(tree, place, branch, True)
 

@@ -352,18 +352,21 @@ def is_plain_question(rule, sides, party, cells):
     return True
 
 
-def plain_due(rule, sides):
+def plain_due(rule, sides, known=None):
     """The least length of a plain tree in the box with these sides, over all trees; None if there is none."""
-    if len({rule(combination) for combination in product(*sides)}) == 1:
-        return 0
-    lengths = []
-    for party, side in enumerate(sides):
-        for cells in partitions(list(side)):
-            if len(cells) > 1 and is_plain_question(rule, sides, party, cells):
-                behind = [plain_due(rule, with_sides(sides, party, cell)) for cell in cells]
-                if None not in behind:
-                    lengths.append(1 + max(behind))
-    return min(lengths, default=None)
+    known = {} if known is None else known
+    if sides not in known:
+        known[sides] = 0
+        if len({rule(combination) for combination in product(*sides)}) > 1:
+            lengths = []
+            for party, side in enumerate(sides):
+                for cells in partitions(list(side)):
+                    if len(cells) > 1 and is_plain_question(rule, sides, party, cells):
+                        behind = [plain_due(rule, with_sides(sides, party, cell), known) for cell in cells]
+                        if None not in behind:
+                            lengths.append(1 + max(behind))
+            known[sides] = min(lengths, default=None)
+    return known[sides]
 
 
 def random_house(rng, *, tools=2, sessions=3, beats=3, top=2, worth=4):

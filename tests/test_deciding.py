@@ -142,6 +142,26 @@ class DecidingTest(unittest.TestCase):
             if first < 4:
                 self.assertEqual(plain_due(rule, rule.full.sides), due)
 
+    def test_the_party_that_is_asked_first_counts(self):
+        # Nobody cares. One party tells which of the others must be asked.
+        for asked in range(3):
+            first, second = [party for party in range(3) if party != asked]
+            table = [combination[second if combination[asked] else first] for combination in product(range(2), repeat=3)]
+            rule = Rule([[[0, 0], [0, 0]]] * 3, table)
+            self.assertEqual((questions_due(rule, rule.full), plain_due(rule, rule.full.sides)), (2, 2))
+            tree = shortest_tree(rule)
+            self.judge_tree(rule, tree, 2)
+            self.assertEqual(tree.form[1], asked)
+            self.assertIsNone(shortest_tree(rule, most=1))
+        rng = random.Random(216)
+        seen = {}
+        for _ in range(60):
+            rule = indifferent(rng, [rng.randint(1, 3) for _ in range(4)])
+            due = plain_due(rule, rule.full.sides)
+            self.judge_tree(rule, shortest_tree(rule), due)
+            seen[due] = True
+        self.assertGreater(len(seen), 3)
+
     def test_by_hand_a_stuck_rule(self):
         # The outcome is the hand that the other one told, and everybody wants the own one.
         rule = Rule([[[1, 0], [0, 1]], [[1, 0], [0, 1]]], [0, 1, 1, 0])

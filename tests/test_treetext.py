@@ -89,7 +89,8 @@ class TreeTextTest(Checks):
     def test_cells_that_are_not_bad(self):
         for line, cells in (("ask 0: 1 / 0", [(1,), (0,)]), ("ask 12: 9 10 / 2 100", [(9, 10), (2, 100)]),
                             (f"ask 0: {10 ** 9} / 0", [(10 ** 9,), (0,)])):
-            self.assertEqual([cell for cell, _ in read_tree(line + BEHIND).form[2]], cells)
+            form = read_tree(line + BEHIND).form
+            self.assertEqual((form[:2], [cell for cell, _ in form[2]]), (("ask", int(line.split(":")[0][4:])), cells))
 
     def test_lines_behind_a_complete_tree(self):
         for more in ("end 0", "", "ask 0: 0 / 1", "none", "end 0\nend 1"):
