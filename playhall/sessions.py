@@ -26,14 +26,10 @@ class Session:
         return (self.first, self.second)
 
     def __lshift__(self, other):
-        if not isinstance(other, int):
-            return NotImplemented
         needs = [(beat + other, tool, amount) for beat, tool, amount in self.needs]
         return Session(self.name, needs, first=self.first, second=self.second)
 
     def __or__(self, other):
-        if not isinstance(other, Session):
-            return NotImplemented
         needs = [*self.needs, *other.needs]
         return Session(self.name, needs, first=self.first + other.first, second=self.second + other.second)
 
@@ -54,9 +50,8 @@ def _is_valid(need):
 
 def _merged(needs):
     """One need for each beat and tool, in ascending order."""
-    merged = []
-    for beat, tool, amount in sorted([tuple(need) for need in needs]):
-        same = len(merged) > 0 and merged[-1][:2] == (beat, tool)
-        before = merged.pop()[2] if same else 0
-        merged.append((beat, tool, before + amount))
-    return tuple(merged)
+    rows = sorted([tuple(need) for need in needs])
+    # Where a beat and a tool come first; their other needs follow.
+    firsts = [at for at, row in enumerate(rows) if at == 0 or row[:2] != rows[at - 1][:2]]
+    return tuple([(*rows[first][:2], sum([amount for _, _, amount in rows[first:behind]]))
+                  for first, behind in zip(firsts, [*firsts[1:], len(rows)])])

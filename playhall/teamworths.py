@@ -28,14 +28,14 @@ def _check_prizes(game, prizes):
 def _forced(arena, team, prizes):
     places = [arena.game.places[counter] for player, counter in zip(arena.game.players, prizes) if player in team]
     sums = [sum([position[place] for place in places]) for position in arena.positions]
-    steps = sorted(set(sums))
-    # The start is worth some step, so the team forces the first step; what it forces are the first ones.
-    low, high = 0, len(steps) - 1
+    heights = sorted(set(sums))
+    # The start has some height, so the team forces the first one; what it forces are the first ones.
+    low, high = 0, len(heights) - 1
     while low < high:
         middle = (low + high + 1) // 2
-        targets = [number for number, worth in enumerate(sums) if worth >= steps[middle]]
+        targets = [number for number, worth in enumerate(sums) if worth >= heights[middle]]
         if 0 in forced_ranks(arena, team, targets):
             low = middle
         else:
             high = middle - 1
-    return steps[low]
+    return heights[low]

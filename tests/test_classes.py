@@ -8,7 +8,7 @@ from playhall.classes import classes, least_form, parting_between
 from playhall.games import Game
 from playhall.gametext import read_game
 from playhall.likeness import face, likeness, parting_play
-from tests.helpers import NIM, WIDE, Checks, end, random_games
+from tests.helpers import NIM, Checks, end, random_games
 from tests.test_likeness import DOWN, LONG, UP
 
 ROUND = read_game("players p\ncounter a 3 0\nmove z p do a+1\nmove c p if a=3 do a-3\nmove b p if a=1\n"

@@ -56,6 +56,32 @@ def bound_names(path):
     return found
 
 
+ITERATING = ("list", "tuple", "dict", "sorted", "sum", "min", "max", "any", "all", "enumerate", "zip")
+
+
+def yields(node):
+    return any(isinstance(part, (ast.Yield, ast.YieldFrom)) for part in ast.walk(node))
+
+
+def parents_of(path):
+    """A dict from each node of a file to the node in which it stands."""
+    above = {}
+    for node in ast.walk(ast.parse(path.read_text("utf-8"))):
+        for part in ast.iter_child_nodes(node):
+            above[part] = node
+    return above
+
+
+def is_iterated(call, above, calls):
+    """Whether a call stands behind the `in` of a loop or comprehension, or in a call that iterates it."""
+    part = above[call]
+    if isinstance(part, (ast.For, ast.comprehension)):
+        return part.iter is call
+    if isinstance(part, ast.Call) and isinstance(part.func, ast.Name):
+        return part.func.id in calls and call in part.args
+    return isinstance(part, ast.YieldFrom)
+
+
 class LanguageTest(unittest.TestCase):
     def test_files(self):
         names = [path.name for path in PACKAGE.iterdir() if path.name != "__pycache__"]
@@ -178,6 +204,65 @@ class LanguageTest(unittest.TestCase):
         self.assertEqual((set(methods) | set(properties)) & set(stored), set())
         for name in generators:
             self.assertEqual(functions.count(name), 1, name)
+
+    def test_generators_are_iterated_at_once(self):
+        generators = {node.name for path in FILES for node in nodes_of(path, ast.FunctionDef) if yields(node)}
+        for path in FILES:
+            above = parents_of(path)
+            for node in above:
+                if not isinstance(node, (ast.Name, ast.Attribute)):
+                    continue
+                name = node.id if isinstance(node, ast.Name) else node.attr
+                if name in generators:
+                    call = above[node]
+                    self.assertIsInstance(call, ast.Call, f"{path.name}:{node.lineno}")
+                    self.assertIs(call.func, node)
+                    self.assertTrue(is_iterated(call, above, ITERATING), f"{path.name}:{node.lineno}")
+            for node in nodes_of(path, ast.FunctionDef):
+                if yields(node):
+                    self.assertEqual(node.decorator_list, [])
+                    self.assertEqual([part for part in ast.walk(node) if isinstance(part, (ast.Try, ast.With))], [])
+                    self.assertTrue(all(part.value is None for part in ast.walk(node) if isinstance(part, ast.Return)))
+
+    def test_views_are_iterated_on_the_spot(self):
+        for path in FILES:
+            above = parents_of(path)
+            for node in [part for part in above if isinstance(part, ast.Call)]:
+                named = isinstance(node.func, ast.Name) and node.func.id in ("zip", "enumerate", "reversed", "range")
+                viewed = isinstance(node.func, ast.Attribute) and node.func.attr in ("items", "keys", "values")
+                if named or viewed:
+                    inner = named and node.func.id == "range" and is_iterated(node, above, ("reversed",))
+                    self.assertTrue(inner or is_iterated(node, above, ITERATING), f"{path.name}:{node.lineno}")
+
+    def test_sets_stand_where_they_may(self):
+        for path in FILES:
+            above = parents_of(path)
+            for node in [part for part in above if isinstance(part, (ast.Call, ast.Set, ast.SetComp))]:
+                if not isinstance(node, ast.Call) or isinstance(node.func, ast.Name) and node.func.id in ("set", "frozenset"):
+                    part = above[node]
+                    sized = isinstance(part, ast.Call) and isinstance(part.func, ast.Name) and part.func.id in ("sorted", "len")
+                    self.assertTrue(sized or isinstance(part, ast.Compare), f"{path.name}:{node.lineno}")
+            self.assertNotIn("frozenset", path.read_text("utf-8"))
+
+    def test_exits_only_assign(self):
+        for path in FILES:
+            for node in nodes_of(path, ast.FunctionDef):
+                if node.name == "__exit__":
+                    for part in ast.walk(node):
+                        self.assertNotIsInstance(part, (ast.Call, ast.Subscript, ast.Raise, ast.For, ast.While, ast.Try))
+                        if isinstance(part, ast.Assign):
+                            self.assertIsInstance(part.targets[0], ast.Attribute)
+                            self.assertIsInstance(part.value, (ast.Attribute, ast.Constant))
+                        if isinstance(part, ast.If):
+                            self.assertIn(ast.unparse(part.test), ("kind is None", "kind is not None"))
+
+    def test_keywords_of_builtins(self):
+        allowed = {"sorted": {"key", "reverse"}, "min": {"key", "default"}, "max": {"key", "default"}, "sum": {"start"},
+                   "enumerate": {"start"}, "zip": {"strict"}}
+        for path in FILES:
+            for node in nodes_of(path, ast.Call):
+                if isinstance(node.func, ast.Name) and hasattr(builtins, node.func.id):
+                    self.assertLessEqual({part.arg for part in node.keywords}, allowed.get(node.func.id, set()))
 
     def test_handlers_name_own_errors_or_key_error(self):
         errors = {node.name for path in FILES for node in nodes_of(path, ast.ClassDef) if node.bases}
