@@ -9,7 +9,6 @@ from playhall.referee import settled, verdict, views_behind
 from playhall.twins import ways_by_sign
 
 CLAIMS = ("at", "goal", "class", "rank", "score", "report")
-REPORTS = ("clean", "foul", "doubt")
 
 
 class Desk:

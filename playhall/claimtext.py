@@ -1,9 +1,10 @@
 """The texts of claimed records."""
 
-from playhall.claims import CLAIMS, REPORTS
+from playhall.claims import CLAIMS
 from playhall.lines import lines_of
 from playhall.recordtext import entry_line, read_entry
 
+_REPORTS = ("clean", "foul", "doubt")
 _NO_RANK = "never"
 
 
@@ -39,7 +40,7 @@ def _read_claim(line):
     elif kind == "score":
         claim = (kind, line.signed(2))
     else:
-        claim = (kind, line.member(2, REPORTS))
+        claim = (kind, line.member(2, _REPORTS))
     line.finish(len(claim) + 1)
     return claim
 
