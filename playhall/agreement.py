@@ -33,12 +33,14 @@ def basis_entries(arena, scoring, other):
     while at < len(entries):
         number, play, values = entries[at]
         yield entries[at]
+        new = []
         for name, to in ways[number]:
             later = _values_after(scoring, other, values, name)
             wider = widened(rows[to], _vector(later))
             if len(wider) > len(rows[to]):
                 rows[to] = wider
-                entries.append((to, (*play, name), later))
+                new.append((to, (*play, name), later))
+        entries.extend(new)
         at += 1
 
 

@@ -20,17 +20,17 @@ class Arena:
             self._explore(len(self._ways), limit)
 
     def _explore(self, number, limit):
-        ways = []
-        position = self._positions[number]
-        for name, behind in moves_from(self.game, position):
+        ways = moves_from(self.game, self._positions[number])
+        new = []
+        for name, behind in ways:
             if behind not in self._numbers:
-                if len(self._positions) >= limit:
+                if len(self._numbers) >= limit:
                     raise TooLarge(limit)
-                self._numbers[behind] = len(self._positions)
-                self._positions.append(behind)
-                self._arrivals.append((number, name))
-            ways.append((name, self._numbers[behind]))
-        self._ways.append(tuple(ways))
+                self._numbers[behind] = len(self._numbers)
+                new.append((name, behind))
+        self._positions.extend([behind for _, behind in new])
+        self._arrivals.extend([(number, name) for name, _ in new])
+        self._ways.append(tuple([(name, self._numbers[behind]) for name, behind in ways]))
 
     @property
     def size(self):

@@ -54,10 +54,11 @@ def _places_behind(ways, first):
     places = {first: 0}
     at = 0
     while at < len(order):
-        present = order[at]
-        for _, number in ways[present]:
+        new = []
+        for _, number in ways[order[at]]:
             if number not in places:
-                places[number] = len(order)
-                order.append(number)
+                places[number] = len(places)
+                new.append(number)
+        order.extend(new)
         at += 1
     return places

@@ -14,8 +14,7 @@ def components(ways):
     for root in _finished(ways)[::-1]:
         if root not in numbers:
             found = _reached(sources, root, numbers)
-            for node in found:
-                numbers[node] = count
+            numbers.update({node: count for node in found})
             count += 1
     return [numbers[node] for node in range(len(ways))]
 
@@ -46,10 +45,11 @@ def _reached(ways, root, barred):
     seen = {root: True}
     at = 0
     while at < len(order):
-        node = order[at]
-        for to in ways[node]:
+        new = []
+        for to in ways[order[at]]:
             if to not in seen and to not in barred:
                 seen[to] = True
-                order.append(to)
+                new.append(to)
+        order.extend(new)
         at += 1
     return order

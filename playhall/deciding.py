@@ -45,11 +45,11 @@ def _explored(rule, box):
         if asked is None:
             return questions, sides
         questions[sides] = asked
-        for _, behind in asked:
-            for part in behind:
-                if part not in known:
-                    known[part] = True
-                    order.append(part)
+        parts = [part for _, behind in asked for part in behind]
+        for part in parts:
+            if part not in known:
+                known[part] = True
+                order.append(part)
     return questions, None
 
 

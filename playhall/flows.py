@@ -10,8 +10,9 @@ def greatest_flow(nodes, arcs, source, sink):
     while sink in arrivals:
         way = _way_to(arrivals, sink)
         room = min([_room(arcs, amounts, step) for _, step in way])
-        for _, (index, sign) in way:
-            amounts[index] += sign * room
+        changes = [(index, sign * room) for _, (index, sign) in way]
+        for index, change in changes:
+            amounts[index] += change
         arrivals = _arrivals(arcs, amounts, steps_at, source)
     return (amounts, sorted(arrivals))
 
@@ -39,10 +40,12 @@ def _arrivals(arcs, amounts, steps_at, source):
     at = 0
     while at < len(order):
         present = order[at]
+        new = []
         for node, step in steps_at[present]:
             if node not in found and _room(arcs, amounts, step) > 0:
                 found[node] = (present, step)
-                order.append(node)
+                new.append(node)
+        order.extend(new)
         at += 1
     return found
 

@@ -31,6 +31,7 @@ def forced_ranks(arena, team, targets):
     # Positions are taken in ascending order of their ranks, so what completes a rank is its greatest part.
     while at < len(order):
         number = order[at]
+        new = []
         for source, is_own in sources[number]:
             if is_own:
                 answered[source] = True
@@ -38,7 +39,8 @@ def forced_ranks(arena, team, targets):
                 open_ways[source] -= 1
             if answered[source] and open_ways[source] == 0 and source not in ranks:
                 ranks[source] = ranks[number] + 1
-                order.append(source)
+                new.append(source)
+        order.extend(new)
         at += 1
     return ranks
 

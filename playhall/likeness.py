@@ -40,11 +40,13 @@ def compared(game, first, other, second, limit=None):
         behind = _pairs_behind(game, other, pairs[at])
         if behind is None:
             return pairs, traced(arrivals, at)
+        new = []
         for name, pair in behind:
             if pair not in seen:
                 seen[pair] = True
-                pairs.append(pair)
+                new.append(pair)
                 arrivals.append((at, name))
+        pairs.extend(new)
         at += 1
     return pairs, None
 

@@ -62,10 +62,11 @@ def all_loads(house):
     known = {found[0]: True}
     at = 0
     while at < len(found):
-        present = found[at]
-        for _, load in steps(house, present):
+        new = []
+        for _, load in steps(house, found[at]):
             if load not in known:
                 known[load] = True
-                found.append(load)
+                new.append(load)
+        found.extend(new)
         at += 1
     return found

@@ -37,8 +37,8 @@ def settled(ways, views):
     at = 0
     while at < len(found):
         number, foul = found[at]
-        for _, to, new in ways[number].get(None, []):
-            view = (to, foul or new)
+        behind = [(to, foul or new) for _, to, new in ways[number].get(None, [])]
+        for view in behind:
             if view not in seen:
                 seen[view] = True
                 found.append(view)
@@ -116,10 +116,12 @@ def _shortest_way(source, steps_from, is_end):
     at = 0
     while not is_end(states[at]):
         present = states[at]
+        new = []
         for state, first, second in steps_from(present):
             if state not in arrivals:
                 arrivals[state] = (present, first, second)
-                states.append(state)
+                new.append(state)
+        states.extend(new)
         at += 1
     return _moves_on(arrivals, states[at])
 

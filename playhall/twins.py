@@ -35,13 +35,15 @@ def twin_net(arena):
     while len(made) < len(states):
         present = states[len(made)]
         steps_made, steps_unmade = {}, {}
+        new = []
         for state, name, _ in twin_steps(ways, present):
             if state not in places:
-                places[state] = len(states)
-                states.append(state)
+                places[state] = len(places)
+                new.append(state)
             if present[2]:
                 rows = steps_unmade if name is None else steps_made
                 rows[places[state]] = True
+        states.extend(new)
         made.append(list(steps_made))
         unmade.append(list(steps_unmade))
     return states, made, unmade
