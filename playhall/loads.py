@@ -62,8 +62,9 @@ def all_loads(house):
     known = {found[0]: True}
     at = 0
     while at < len(found):
+        present = found[at]
         new = []
-        for _, load in steps(house, found[at]):
+        for _, load in steps(house, present):
             if load not in known:
                 known[load] = True
                 new.append(load)

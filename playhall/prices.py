@@ -21,15 +21,19 @@ def tight_schedule(house, bound):
     gains = gains_of(house, bound[0], bound[1])
     # A shortest way from the empty load whose steps count all that its price has.
     loads = [0]
+    seen = {0: True}
     arrivals = [None]
     at = 0
     while prices[loads[at]] > 0:
         present = loads[at]
+        new = []
         for index, behind in [*net.starts[present], (None, net.beats[present])]:
             gain = -bound[2] if index is None else gains[index]
-            if gain + prices[behind] == prices[present] and behind not in loads:
-                loads.append(behind)
+            if gain + prices[behind] == prices[present] and behind not in seen:
+                seen[behind] = True
+                new.append(behind)
                 arrivals.append((at, index))
+        loads.extend(new)
         at += 1
     return _windows(net, traced(arrivals, at))
 
